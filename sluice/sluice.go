@@ -3,33 +3,6 @@ package sluice
 
 import "sluice/api"
 
-// Packer makes blocks.
-type Packer struct{}
-
-// NewPacker makes a packer (P6).
-func NewPacker(limit int) (*Packer, api.Errno) { return nil, api.OK }
-
-// Resize tells the table's next limit (P6).
-func (p *Packer) Resize(limit int) api.Errno { return api.OK }
-
-// Pack makes a block of a list of pairs (P7).
-func (p *Packer) Pack(l []api.Header) ([]byte, api.Errno) { return nil, api.OK }
-
-// Size tells what the table's pairs take up (P6).
-func (p *Packer) Size() int { return 0 }
-
-// Unpacker reads blocks.
-type Unpacker struct{}
-
-// NewUnpacker makes an unpacker (P8).
-func NewUnpacker(limit int) (*Unpacker, api.Errno) { return nil, api.OK }
-
-// Unpack reads a block (P8).
-func (u *Unpacker) Unpack(b []byte) ([]api.Header, api.Errno) { return nil, api.OK }
-
-// Size tells what the table's pairs take up (P8).
-func (u *Unpacker) Size() int { return 0 }
-
 // End is one end of a connection.
 type End struct{}
 
