@@ -171,7 +171,7 @@ func TestPackFixed(t *testing.T) {
 	}
 }
 
-// noLists has lists that may not be, and behind each of them one that may just be.
+// noLists has lists that may not be, and lists that just may.
 func noLists() (wrong, right []list) {
 	text := strings.Repeat("n", 40)
 	pair := h(text, text)
