@@ -19,3 +19,12 @@ func Bytes(f api.Frame) []byte {
 	b = append(b, byte(n>>8), byte(n), byte(f.Kind), byte(f.Flags), byte(f.Stream>>8), byte(f.Stream))
 	return append(b, f.Body...)
 }
+
+// Number makes the four bytes of a number.
+func Number(n uint32) []byte {
+	return []byte{byte(n >> 24), byte(n >> 16), byte(n >> 8), byte(n)}
+}
+
+func number(b []byte) uint32 {
+	return uint32(b[0])<<24 | uint32(b[1])<<16 | uint32(b[2])<<8 | uint32(b[3])
+}

@@ -13,22 +13,20 @@ type head struct {
 }
 
 // Take reads one more byte, and tells the frame that ends with it, if one does. With the byte that is a fault it gives up by panic with that fault; behind that the reader is of no use.
-func (r *Reader) Take(c byte) (api.Frame, bool) {
+func (r *Reader) Take(c byte) (Frame, bool) {
 	r.got = append(r.got, c)
 	if len(r.got) == headSize {
 		r.head = headOf(r.got)
 		checkHead(r.head)
 	}
 	if len(r.got) < headSize || len(r.got) < headSize+r.head.length {
-		return api.Frame{}, false
+		return nil, false
 	}
-	body := r.got[headSize:]
-	checkBody(r.head, body)
 	f := api.Frame{Kind: r.head.kind, Flags: r.head.flags, Stream: r.head.stream}
 	// The body is copied, for the next frame is gathered in the same room.
-	f.Body = append(f.Body, body...)
+	f.Body = append(f.Body, r.got[headSize:]...)
 	r.got = r.got[:0]
-	return f, true
+	return frameOf(f), true
 }
 
 func headOf(b []byte) head {

@@ -27,7 +27,7 @@ func lengthFits(h head) bool {
 	case api.Reset, api.Goaway:
 		return h.length == 1
 	case api.Settings:
-		if h.has(api.Ack) {
+		if h.flags&api.Ack != 0 {
 			return h.length == 0
 		}
 		return h.length == 4
@@ -37,42 +37,39 @@ func lengthFits(h head) bool {
 	return true
 }
 
-func (h head) has(flag int) bool { return h.flags&flag != 0 }
-
-// checkBody gives up by panic if no frame with this head, which was checked, has this body.
-func checkBody(h head, body []byte) {
-	switch h.kind {
-	case api.Data:
-		if h.has(api.Padded) {
-			checkPadding(body)
-		}
-	case api.Settings:
-		if !h.has(api.Ack) {
-			checkNumber(body, 0)
-		}
-	case api.Credit:
-		checkNumber(body, 1)
+// contentOf cuts off what pads the body of Data, and gives up by panic if the body is not padded as it says.
+func contentOf(w whole) []byte {
+	if !w.Has(api.Padded) {
+		return w.Body
 	}
-}
-
-func checkPadding(body []byte) {
-	if len(body) == 0 {
+	if len(w.Body) == 0 {
 		panic(api.FaultForm)
 	}
-	p := int(body[0])
-	if len(body) < p+1 {
+	p := int(w.Body[0])
+	end := len(w.Body) - p
+	if end < 1 {
 		panic(api.FaultForm)
 	}
-	for _, c := range body[len(body)-p:] {
+	for _, c := range w.Body[end:] {
 		if c != 0 {
 			panic(api.FaultForm)
 		}
 	}
+	return w.Body[1:end]
 }
 
-func checkNumber(body []byte, least uint32) {
-	n := uint32(body[0])<<24 | uint32(body[1])<<16 | uint32(body[2])<<8 | uint32(body[3])
+func settingOf(w whole) int {
+	if w.Has(api.Ack) {
+		return 0
+	}
+	return numberFrom(0, w.Body)
+}
+
+// numberFrom reads a number up to MaxNumber, and gives up by panic if it is above that, or below the least.
+func numberFrom(least uint32, body []byte) int {
+	n := number(body)
 	if n < least || n > api.MaxNumber {
 		panic(api.FaultForm)
 	}
+	return int(n)
 }

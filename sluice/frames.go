@@ -41,7 +41,7 @@ func (r *Reader) Feed(b []byte) (told []api.Frame, fault api.Errno) {
 	}()
 	for _, c := range b {
 		if f, ended := r.in.Take(c); ended {
-			told = append(told, f)
+			told = append(told, f.Plain())
 		}
 	}
 	return told, api.OK
