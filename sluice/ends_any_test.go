@@ -110,9 +110,12 @@ func TestAnyTalk(t *testing.T) {
 // wantTuned asks what P22 says of what an end has made.
 func wantTuned(t *testing.T, w *watched) {
 	t.Helper()
-	used := w.m.log.total(came, api.Data, bodyLength)
-	if n := w.m.of[0].total(made, api.Credit, numberOf); n > w.m.c.Cap-32+used {
-		t.Errorf("P22: credit of %d was made, %d came, Cap is %d", n, used, w.m.c.Cap)
+	gone := w.m.log.total(came, api.Data, bodyLength) // what was read or dropped: all but what is unread
+	for _, s := range w.m.streams(true, true) {
+		gone -= len(w.m.unread(s))
+	}
+	if n := w.m.of[0].total(made, api.Credit, numberOf); n > w.m.c.Cap-32+gone {
+		t.Errorf("P22: credit of %d was made, %d were read or dropped, Cap is %d", n, gone, w.m.c.Cap)
 	}
 }
 
