@@ -140,3 +140,9 @@ func (w *watched) lookAt(s int) {
 		w.t.Errorf("P18: Windows(%d) = %d, %d, %d, want %d, %d, %d", s, a, b, e, a2, b2, e2)
 	}
 }
+
+func (w *watched) Heads(s int) ([]api.Header, api.Errno) {
+	w.t.Helper()
+	w.lookAt(s)
+	return w.e.Heads(s)
+}
